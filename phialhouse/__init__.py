@@ -1,0 +1,1 @@
+"""Phialhouse: a dispensary whose recipes become rows at a bench, and whose every dose can be traced."""
