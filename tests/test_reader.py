@@ -2,12 +2,11 @@
 
 import random
 import unittest
-from fractions import Fraction
 
 from phialhouse.errors import NoText
 from phialhouse.reader import read_book
+from samples import numbered, some_book, written
 
-LETTERS = "abcdefghijklmnopqrstuvwxyz"
 NINES = "999999999"
 TENTH = "1000000000"
 
@@ -27,67 +26,6 @@ WHOLE_BOOK = (
     (("brine", (("take", (1, 2), "salt"), ("fill", (10, 1), "water"))),
      ("paste", (("parts", (3, 1), ((1, "salt"), (2, "brine"))), ("to", 4, "water"), ("take", (7, 3), "acid")))),
 )
-
-
-def shown(one):
-    return str(Fraction(one[0], one[1]))
-
-
-def written_row(row):
-    if row[0] == "take":
-        return f"take {shown(row[1])} of {row[2]}"
-    if row[0] == "fill":
-        return f"fill {shown(row[1])} with {row[2]}"
-    if row[0] == "to":
-        return f"{row[1]} to one of {row[2]}"
-    pairs = ", ".join([f"{number} {thing}" for number, thing in row[2]])
-    return f"parts {shown(row[1])}: {pairs}"
-
-
-def written(book):
-    lines = [f"ware {name}" for name in book[0]]
-    lines += [f"apart {one} {other}" for one, other in book[1]]
-    lines += [f"recipe {name}: " + "; ".join([written_row(row) for row in rows]) for name, rows in book[2]]
-    return "\n".join(lines)
-
-
-def some_name(source):
-    words = ["a", "to", "of", "one", "take", "fill", "with", "parts", "ware", "apart", "recipe", "zzzzzzzz"]
-    made = "".join([source.choice(LETTERS) for number in range(source.randrange(1, 9))])
-    return source.choice([made, source.choice(words)])
-
-
-def some_amount(source):
-    most = 10 ** source.randrange(1, 10)
-    one = Fraction(source.randrange(1, most), source.randrange(1, most))
-    return (one.numerator, one.denominator)
-
-
-def some_row(source, kinds):
-    kind = source.choice(kinds)
-    if kind == "to":
-        return ("to", source.randrange(1, 1001), some_name(source))
-    if kind == "parts":
-        pairs = [(source.randrange(1, 1001), some_name(source)) for number in range(source.randrange(1, 5))]
-        return ("parts", some_amount(source), tuple(pairs))
-    return (kind, some_amount(source), some_name(source))
-
-
-def some_recipe(source):
-    rows = [some_row(source, ["take", "parts", "fill"])]
-    rows += [some_row(source, ["take", "parts", "fill", "to"]) for number in range(source.randrange(0, 6))]
-    return (some_name(source), tuple(rows))
-
-
-def some_book(source):
-    wares = [some_name(source) for number in range(source.randrange(1, 21))]
-    apart = [(some_name(source), some_name(source)) for number in range(source.randrange(0, 31))]
-    recipes = [some_recipe(source) for number in range(source.randrange(0, 13))]
-    return (tuple(wares), tuple(apart), tuple(recipes))
-
-
-def numbered(number):
-    return "n" + LETTERS[number // 26] + LETTERS[number % 26]
 
 
 class ReaderTest(unittest.TestCase):
