@@ -3,6 +3,7 @@
 from phialhouse.errors import NoAmount, NoText
 
 NOUGHT = (0, 1)
+ONE = (1, 1)
 FIGURES = "0123456789"
 MOST_FIGURES = 60
 
@@ -22,6 +23,14 @@ def common_divisor(one, other):
 def lowest_terms(top, bottom):
     divisor = common_divisor(top, bottom)
     return (top // divisor, bottom // divisor)
+
+
+def is_amount(thing):
+    if not isinstance(thing, tuple) or len(thing) != 2:
+        return False
+    if not is_whole_number(thing[0]) or not is_whole_number(thing[1]):
+        return False
+    return thing[0] >= 0 and thing[1] >= 1 and common_divisor(thing[0], thing[1]) == 1
 
 
 def amount(top, bottom=1):

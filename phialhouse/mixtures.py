@@ -1,11 +1,10 @@
 """Mixtures: tuples of pairs (ware, amount), sorted by wares, each ware once, amounts above nought."""
 
-from phialhouse.amounts import NOUGHT, less, minus, over, plus, times
+from phialhouse.amounts import NOUGHT, ONE, less, minus, over, plus, times
 from phialhouse.errors import Nothing, Short
 
 LETTERS = "abcdefghijklmnopqrstuvwxyz"
 MOST_LETTERS = 8
-ONE = (1, 1)
 
 
 def is_ware(thing):

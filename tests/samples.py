@@ -198,3 +198,106 @@ def spoil(thing):
         for part in list(thing.values()):
             spoil(part)
         thing["spoilt"] = "spoilt"
+
+
+BENCH_WARES = ["acid", "lye", "oil", "salt", "water", "wax"]
+ANYTHING = [None, True, False, 0, 1, -1, 10 ** 30, 1.5, 2j, "", "a", "water", "Water", "12", b"water", (), (1,), (1, 1),
+            (0, 1), (1, 0), (2, 4), ("a", "b"), [], [1, 1], ["a"], {}, {"a": 1}, {1, 2}, frozenset(), range(3), int, object(),
+            (("a", (1, 1)),), [[]], ((),), lambda: 1]
+
+
+def some_bench(source, most_rooms=5, most_pairs=4):
+    rooms = [as_amount(Fraction(source.randrange(1, 40), source.randrange(1, 7)))
+             for number in range(source.randrange(1, most_rooms + 1))]
+    pairs = {tuple(sorted(source.sample(BENCH_WARES, 2))) for number in range(source.randrange(0, most_pairs + 1))}
+    return (tuple(rooms), tuple(sorted(pairs)))
+
+
+def is_apart(bench, names):
+    return [pair for pair in bench[1] if set(pair) <= set(names)]
+
+
+def some_phials(source, bench):
+    """Phials that fit the bench, some of them clean, some full to the brim."""
+    found = []
+    for room in bench[0]:
+        names = source.sample(BENCH_WARES, source.randrange(0, 4))
+        while is_apart(bench, names):
+            names.pop()
+        held = names[:source.randrange(0, len(names) + 1)]
+        parts = {ware: Fraction(source.randrange(1, 9), source.randrange(1, 9)) for ware in held}
+        most = as_fraction(room) * source.choice([1, 1, Fraction(1, 2), Fraction(1, 7)])
+        share = most / sum(parts.values()) if parts else 0
+        found.append((as_mixture({ware: part * share for ware, part in parts.items()}), tuple(sorted(names))))
+    return found
+
+
+def some_deed(source, bench, phials):
+    """A row that is in most cases formed as a deed, though it need not go through."""
+    count = len(bench[0])
+    phial = source.randrange(count)
+    kind = source.choice(["draw", "draw", "draw", "fill", "pour", "pour", "pour", "empty", "rinse"])
+    ware = source.choice(BENCH_WARES)
+    held = sum([as_fraction(many) for ware, many in phials[phial][0]])
+    room = as_fraction(bench[0][phial])
+    if kind == "draw":
+        free = room - held
+        many = source.choice([free, free / 2, free / 3, free / 5, Fraction(1, 3), Fraction(2), free + 1])
+        return ("draw", phial, ware, as_amount(many or Fraction(1)))
+    if kind == "fill":
+        return ("fill", phial, ware, as_amount(source.choice([room, (room + held) / 2, held, room + 1])))
+    if kind == "pour":
+        other = source.choice([one for one in range(count) if one != phial] or [phial])
+        return ("pour", phial, other, source.choice([(1, 1), (1, 1), (1, 2), (1, 3), (2, 5)]))
+    return (kind, phial)
+
+
+def plain_done(bench, phials, row):
+    """A row, formed as a deed, done by 4.3 to 4.5: ("ok", phials), or the refusal's name and its fields but the place."""
+    mixed = [{ware: as_fraction(many) for ware, many in holds} for holds, names in phials]
+    names = [set(clings) for holds, clings in phials]
+    word, phial = row[0], row[1]
+    goal, comes = phial, {}
+    if word == "pour":
+        if not mixed[phial]:
+            return ("Dry", phial)
+        goal, part = row[2], as_fraction(row[3])
+        comes = {ware: many * part for ware, many in mixed[phial].items()}
+        mixed[phial] = {ware: many * (1 - part) for ware, many in mixed[phial].items()}
+        names[goal] |= names[phial]
+    if word == "rinse":
+        if mixed[phial]:
+            return ("Wet", phial)
+        names[phial] = set()
+    if word == "empty":
+        mixed[phial] = {}
+    if word in ("draw", "fill"):
+        lies = sum(mixed[phial].values())
+        if word == "fill" and as_fraction(row[3]) <= lies:
+            return ("Low", phial)
+        comes = {row[2]: as_fraction(row[3]) - (lies if word == "fill" else 0)}
+        names[phial].add(row[2])
+    for ware, many in comes.items():
+        mixed[goal][ware] = mixed[goal].get(ware, Fraction(0)) + many
+    much = sum(mixed[goal].values()) - as_fraction(bench[0][goal])
+    if much > 0:
+        return ("Spilt", goal, as_amount(much))
+    apart = is_apart(bench, names[goal])
+    if apart:
+        return ("Touch", goal, apart[0])
+    return ("ok", [(as_mixture(parts), tuple(sorted(clings))) for parts, clings in zip(mixed, names)])
+
+
+def rows_that_go(source, bench, phials, many):
+    """Rows that go through, and the phials behind them."""
+    rows = []
+    there = list(phials)
+    for number in range(many):
+        row = some_deed(source, bench, there)
+        if row[0] == "pour" and row[1] == row[2]:
+            continue
+        told = plain_done(bench, there, row)
+        if told[0] == "ok":
+            rows.append(row)
+            there = told[1]
+    return (rows, there)
