@@ -301,3 +301,61 @@ def rows_that_go(source, bench, phials, many):
             rows.append(row)
             there = told[1]
     return (rows, there)
+
+
+def ware_part(source, wares):
+    return ("ware", source.choice(wares), as_amount(Fraction(source.randrange(1, 30), source.randrange(1, 9))))
+
+
+def recipe_part(name, children):
+    whole = sum([as_fraction(child[2]) for child in children])
+    return ("recipe", name, as_amount(whole), tuple(children))
+
+
+def some_tree(source, most_parts=120, most_depth=40, wares=None):
+    """A tree by 5.1: a recipe at its top, parts of one name not alike, recipes within ones of their own name."""
+    wares = wares or BENCH_WARES
+    left = [source.randrange(1, most_parts)]
+
+    def grow(depth):
+        children = []
+        for number in range(source.choice([1, 1, 2, 2, 3, 5])):
+            if children and left[0] <= 0:
+                break
+            left[0] -= 1
+            if depth < most_depth and left[0] > 0 and source.random() < 0.65:
+                children.append(grow(depth + 1))
+            else:
+                children.append(ware_part(source, wares))
+        return recipe_part(source.choice(["rx", "ry", "rz"]), children)
+    return grow(1)
+
+
+def all_paths(tree, path=()):
+    """The paths of all parts, with the part: a dict."""
+    found = {path: tree}
+    if tree[0] == "recipe":
+        for place, child in enumerate(tree[3]):
+            found.update(all_paths(child, path + (place,)))
+    return found
+
+
+def deep_tree(depth):
+    tree = recipe_part("rx", [("ware", "salt", (1, 1))])
+    for number in range(depth - 1):
+        tree = recipe_part("rx", [("ware", "oil", (1, 2)), tree])
+    return tree
+
+
+def full_tree(need):
+    """A tree of two children each, whose need is just this."""
+    if need == 1:
+        return recipe_part("ry", [("ware", "salt", (1, 1))])
+    return recipe_part("ry", [full_tree(need - 1), full_tree(need - 1)])
+
+
+def plain_need(tree):
+    if tree[0] == "ware":
+        return 0
+    needs = sorted([0] + [plain_need(child) for child in tree[3]])
+    return max(needs[-1], needs[-2] + 1)
