@@ -26,6 +26,21 @@ EXPRESSIONS = (ast.Constant, ast.Name, ast.List, ast.Tuple, ast.Dict, ast.Set, a
                ast.BoolOp, ast.IfExp, ast.Call, ast.Attribute, ast.Subscript, ast.Slice, ast.ListComp, ast.JoinedStr,
                ast.FormattedValue, ast.Lambda)
 LIMITS = (40, 400, 120)
+NO_NAMES = set("""attrgetter breakpoint builtins compile copyright credits delattr dir eval exec exit gc getattr globals
+    hasattr help id importlib license locals methodcaller os quit setattr super type vars sys""".split())
+# Names that a method of the package's own may share with Python's own values, and those that a value may share.
+OWN_METHODS = METHODS | {"add", "discard"}
+OWN_VALUES = {"count", "index", "title", "find", "get", "join", "lower", "upper", "split", "strip", "copy", "add"}
+PYTHONS = set().union(*[dir(kind) for kind in (str, int, list, dict, set, bytes, tuple)])
+CHANGES = {"append", "clear", "extend", "insert", "pop", "remove", "reverse", "setdefault", "update"}
+WALKERS = {"zip", "enumerate", "reversed", "range"}
+VIEWS = {"items", "keys", "values"}
+TAKERS = {"list", "tuple", "dict", "sorted", "sum", "any", "all", "enumerate", "zip", "min", "max", "len"}
+ERRORS = {name for name in BUILTINS if name[0].isupper()}
+KINDS = {"int", "str", "bool", "list", "tuple", "dict"}
+KEYS = {"len", "int", "str", "abs", "sum", "min", "max", "tuple"}
+KEYWORDS = {"sorted": {"key", "reverse"}, "min": {"key", "default"}, "max": {"key", "default"}, "sum": {"start"},
+            "enumerate": {"start"}, "zip": {"strict"}}
 
 
 def classes_in(tree):
@@ -56,14 +71,38 @@ def bound_at_top(tree):
     return found
 
 
-def is_plain(node):
+def is_plain(node, functions=()):
     if isinstance(node, ast.Constant):
         return isinstance(node.value, (int, str)) or node.value is None
+    if isinstance(node, ast.Name):
+        return node.id in functions
     if isinstance(node, (ast.List, ast.Tuple)):
-        return all(is_plain(part) or isinstance(part, ast.Name) for part in node.elts)
+        return all(is_plain(part, functions) for part in node.elts)
     if isinstance(node, ast.Dict):
-        return all(is_plain(part) or isinstance(part, ast.Name) for part in node.keys + node.values)
+        return all(is_plain(part, functions) for part in node.keys + node.values)
     return isinstance(node, ast.UnaryOp) and isinstance(node.op, ast.USub) and is_plain(node.operand)
+
+
+def holds_kept(node):
+    """Whether a list or dict stands within a list or dict."""
+    inner = [part for part in ast.walk(node) if part is not node and isinstance(part, (ast.List, ast.Dict))]
+    return isinstance(node, (ast.List, ast.Dict)) and bool(inner)
+
+
+def is_call_of(node, names):
+    return isinstance(node, ast.Call) and isinstance(node.func, ast.Name) and node.func.id in names
+
+
+def is_view(node):
+    return isinstance(node, ast.Call) and isinstance(node.func, ast.Attribute) and node.func.attr in VIEWS
+
+
+def outermost(tree):
+    """The functions of a file's top and the methods of its classes."""
+    found = [node for node in tree.body if isinstance(node, ast.FunctionDef)]
+    for node in classes_in(tree):
+        found += [part for part in node.body if isinstance(part, ast.FunctionDef)]
+    return found
 
 
 def is_docstring(node):
@@ -77,6 +116,10 @@ class Looker:
         self.fields = fields
         self.methods = methods
         self.found = []
+        self.above = {}
+        for node in ast.walk(self.tree):
+            for part in ast.iter_child_nodes(node):
+                self.above[part] = node
 
     def fault(self, rule, node):
         self.found.append((rule, node if isinstance(node, int) else node.lineno))
@@ -94,6 +137,17 @@ class Looker:
                 self.look_at_function(node)
             if isinstance(node, ast.comprehension) and (node.is_async or len(node.ifs) > 1):
                 self.fault("L7", self.tree.body[0])
+            if isinstance(node, ast.Name) and isinstance(node.ctx, ast.Load):
+                self.look_at_use(node)
+            if isinstance(node, ast.For):
+                self.look_at_walk(node)
+            if is_call_of(node, WALKERS) or is_view(node):
+                self.look_at_walker(node)
+            if is_call_of(node, {"set", "frozenset"}):
+                self.look_at_set(node)
+        for node in outermost(self.tree):
+            self.look_at_scope(node)
+        self.look_at_lambdas()
         return sorted(set(self.found))
 
     def look_at_lines(self):
@@ -107,6 +161,8 @@ class Looker:
                 self.fault("L14", number)
             if WORDS.search(line):
                 self.fault("L17", number)
+            if re.search(r"\\(?![nt'\"\\])", line.replace("\\\\", "")):
+                self.fault("L27", number)
 
     def look_at_top(self):
         for place, node in enumerate(self.tree.body):
@@ -118,8 +174,11 @@ class Looker:
             elif isinstance(node, ast.ClassDef):
                 self.look_at_class(node)
             elif isinstance(node, ast.Assign):
-                if not is_plain(node.value) or not isinstance(node.targets[0], ast.Name):
+                functions = [part.name for part in self.tree.body[:place] if isinstance(part, ast.FunctionDef)]
+                if not is_plain(node.value, functions) or not isinstance(node.targets[0], ast.Name):
                     self.fault("L3", node)
+                if holds_kept(node.value):
+                    self.fault("L15", node)
             elif not isinstance(node, ast.FunctionDef) and not (place == 0 and is_docstring(node)):
                 self.fault("L3", node)
         for nodes in bound_at_top(self.tree).values():
@@ -141,7 +200,7 @@ class Looker:
             for name in [getattr(node, key, None) for key in ("id", "arg", "attr", "name")]:
                 if isinstance(name, str) and name not in SPECIAL and not re.fullmatch(r"[A-Za-z][A-Za-z0-9_]*", name):
                     self.fault("L12", getattr(node, "lineno", 1))
-                if name in UNUSED:
+                if name in UNUSED or (name in NO_NAMES and isinstance(node, (ast.Name, ast.arg, ast.FunctionDef))):
                     self.fault("L17", getattr(node, "lineno", 1))
 
     def look_at_statement(self, node):
@@ -166,7 +225,9 @@ class Looker:
         if node.finalbody:
             self.fault("L6", node)
         for handler in node.handlers:
-            if not isinstance(handler.type, ast.Name) or handler.type.id in ("Exception", "TypeError"):
+            # Narrower than the rule: what is taken round Python's own calls is not taken at all.
+            if not isinstance(handler.type, ast.Name) or handler.type.id in (
+                    "Exception", "TypeError", "ValueError", "LookupError", "IndexError", "RuntimeError"):
                 self.fault("L19", handler)
 
     def look_at_expression(self, node):
@@ -204,10 +265,99 @@ class Looker:
     def look_at_call(self, node):
         if any(isinstance(part, ast.Starred) for part in node.args):
             self.fault("L7", node)
-        if node.keywords and isinstance(node.func, ast.Name) and node.func.id not in ("sorted", "min", "max", "sum",
-                                                                                      "enumerate", "zip"):
-            if node.func.id in BUILTINS:
+        given = {keyword.arg for keyword in node.keywords}
+        if isinstance(node.func, ast.Name) and node.func.id in BUILTINS and given - KEYWORDS.get(node.func.id, set()):
+            self.fault("L22", node)
+        if isinstance(node.func, ast.Attribute) and node.func.attr in METHODS and given:
+            self.fault("L22", node)
+        for keyword in node.keywords:
+            if keyword.arg in ("reverse", "strict") and not isinstance(keyword.value, ast.Constant):
                 self.fault("L22", node)
+        if is_call_of(node, {"isinstance"}):
+            kinds = node.args[1].elts if isinstance(node.args[1], ast.Tuple) else [node.args[1]]
+            if any(not isinstance(kind, ast.Name) for kind in kinds):
+                self.fault("L22", node)
+
+    def look_at_use(self, node):
+        above = self.above[node]
+        top = bound_at_top(self.tree)
+        called = isinstance(above, ast.Call) and above.func is node
+        if node.id in BUILTINS and not called:
+            self.look_at_kept_builtin(node, above)
+        if isinstance(top.get(node.id, [None])[0], ast.ClassDef) and not called:
+            init = isinstance(above, ast.Attribute) and above.attr == "__init__"
+            if not init and not isinstance(above, (ast.ClassDef, ast.ExceptHandler)) and not is_call_of(above, {"isinstance"}):
+                self.fault("L18", node)
+        bound = top.get(node.id, [None])[0]
+        if isinstance(bound, ast.Assign) and isinstance(bound.value, (ast.List, ast.Dict)):
+            self.look_at_kept(node, above)
+
+    def look_at_kept_builtin(self, node, above):
+        if isinstance(above, ast.Tuple):
+            above = self.above[above]
+        if is_call_of(above, {"isinstance"}) and node.id in KINDS | ERRORS:
+            return
+        if isinstance(above, (ast.ClassDef, ast.ExceptHandler)) and node.id in ERRORS:
+            return
+        if isinstance(above, ast.keyword) and above.arg == "key" and node.id in KEYS:
+            return
+        self.fault("L22", node)
+
+    def look_at_kept(self, node, above):
+        """A list or dict of the file's top is only read."""
+        if isinstance(above, ast.Subscript) and above.value is node and isinstance(above.ctx, ast.Load):
+            return
+        if isinstance(above, (ast.For, ast.comprehension)) and above.iter is node or isinstance(above, ast.Compare):
+            return
+        if is_call_of(above, TAKERS | {"reversed"}):
+            return
+        if isinstance(above, ast.Attribute) and above.attr in {"get", "index", "count", "copy"} | VIEWS:
+            return
+        self.fault("L15", node)
+
+    def look_at_walker(self, node):
+        above = self.above[node]
+        if isinstance(above, (ast.For, ast.comprehension)) and above.iter is node:
+            return
+        if is_call_of(above, TAKERS - {"len"}) and above.args[0] is node:
+            return
+        self.fault("L23", node)
+
+    def look_at_walk(self, node):
+        walked = node.iter
+        while is_call_of(walked, {"enumerate", "zip", "reversed"}) or is_view(walked):
+            walked = walked.args[0] if isinstance(walked.func, ast.Name) else walked.func.value
+        if not isinstance(walked, (ast.Name, ast.Attribute, ast.Subscript)):
+            return
+        told = ast.dump(walked).replace("Store()", "Load()")
+        for part in [inner for statement in node.body for inner in ast.walk(statement)]:
+            if isinstance(part, ast.Call) and isinstance(part.func, ast.Attribute) and part.func.attr in CHANGES:
+                changed = part.func.value
+            elif isinstance(part, ast.Subscript) and isinstance(part.ctx, ast.Store):
+                changed = part.value
+            else:
+                continue
+            if ast.dump(changed).replace("Store()", "Load()") == told:
+                self.fault("L23", part)
+
+    def look_at_set(self, node):
+        above = self.above[node]
+        while isinstance(above, ast.BinOp):
+            above = self.above[above]
+        if isinstance(above, ast.Compare) and all(isinstance(one, (ast.In, ast.NotIn, ast.Eq, ast.NotEq)) for one in above.ops):
+            return
+        if is_call_of(above, {"sorted", "len"}) and not above.keywords:
+            return
+        self.fault("L24", node)
+
+    def look_at_lambdas(self):
+        seen = {}
+        for node in ast.walk(self.tree):
+            if isinstance(node, ast.Lambda):
+                key = (node.lineno, tuple([part.arg for part in node.args.args]))
+                if key in seen:
+                    self.fault("L13", node)
+                seen[key] = True
 
     def look_at_function(self, node):
         if node.end_lineno - node.lineno + 1 > LIMITS[0]:
@@ -221,10 +371,17 @@ class Looker:
             self.fault("L21", node)
         if node.name.startswith("__") and node.name not in SPECIAL:
             self.fault("L5", node)
+        if node.name == "__init__" and [part for part in ast.walk(node) if isinstance(part, ast.Return)]:
+            self.fault("L28", node)
+
+    def look_at_scope(self, node):
+        """Names within a function of the file's top, those of functions and lambdas within it counted in."""
         top = bound_at_top(self.tree)
         taken = [name for name in top if not isinstance(top[name][0], (ast.FunctionDef, ast.Assign))]
-        own = [part.arg for part in given.args] + [part.id for part in ast.walk(node) if isinstance(part, ast.Name)
-                                                   and isinstance(part.ctx, ast.Store)]
+        own = [part.arg for part in ast.walk(node) if isinstance(part, ast.arg)]
+        own += [part.id for part in ast.walk(node) if isinstance(part, ast.Name) and isinstance(part.ctx, ast.Store)]
+        own += [part.name for part in ast.walk(node) if isinstance(part, ast.ExceptHandler) and part.name]
+        own += [part.name for part in ast.walk(node) if isinstance(part, ast.FunctionDef) and part is not node]
         for name in own:
             if name in taken or hasattr(builtins, name):
                 self.fault("L15", node)
