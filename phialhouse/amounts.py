@@ -42,6 +42,9 @@ def amount(top, bottom=1):
 
 
 def plus(one, other):
+    # Sums begin at nought, and finding divisors is by far the slowest part of adding.
+    if one == NOUGHT:
+        return other
     return lowest_terms(one[0] * other[1] + other[0] * one[1], one[1] * other[1])
 
 
