@@ -22,15 +22,17 @@ def are_rooms(thing):
 def are_pairs(thing):
     if not isinstance(thing, tuple) or len(thing) > MOST_PAIRS:
         return False
-    if not all([is_pair(pair) for pair in thing]):
-        return False
-    return all([thing[place] < thing[place + 1] for place in range(len(thing) - 1)])
+    return all([is_pair(pair) for pair in thing]) and is_rising(thing)
+
+
+def is_rising(some):
+    return all([some[place] < some[place + 1] for place in range(len(some) - 1)])
 
 
 def is_pair(thing):
     if not isinstance(thing, tuple) or len(thing) != 2:
         return False
-    return is_ware(thing[0]) and is_ware(thing[1]) and thing[0] < thing[1]
+    return is_ware(thing[0]) and is_ware(thing[1]) and is_rising(thing)
 
 
 def clean(bench):

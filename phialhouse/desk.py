@@ -1,11 +1,11 @@
 """The desk: one book of recipes, one bench with its phials, and books of lots, told rows of words."""
 
 from phialhouse.amounts import NOUGHT, ONE, less, shown_amount
-from phialhouse.bench import clean
+from phialhouse.bench import clean, is_bench, is_rising
 from phialhouse.books import Books
 from phialhouse.errors import NoRow
 from phialhouse.lines import amount_of, number_of, shown_list, shown_mixture, things_told, words_of
-from phialhouse.looker import looked
+from phialhouse.looker import looked, recipe_names
 from phialhouse.making import rows_made
 from phialhouse.meaning import made
 from phialhouse.needs import need_of
@@ -14,7 +14,6 @@ from phialhouse.strengths import asked_for
 from phialhouse.trees import tree
 from phialhouse.walking import done, walked
 
-MOST_ROOMS = 16
 MOST_TREE = 120
 MOST_MEASURES = 6
 GREATEST_MEASURE = 1000
@@ -55,18 +54,18 @@ class Desk:
         book = read_book(text.replace(" | ", "\n"))
         looked(book)
         self.book = book
-        self.lay_bench(self.bench[0], tuple(sorted(set([tuple(sorted(pair)) for pair in book[1]]))))
+        self.lay_bench((self.bench[0], tuple(sorted(set([tuple(sorted(pair)) for pair in book[1]])))))
         return "ok"
 
-    def lay_bench(self, rooms, apart):
-        self.bench = (rooms, apart)
-        self.phials = clean(self.bench)
+    def lay_bench(self, bench):
+        self.bench = bench
+        self.phials = clean(bench)
 
     def say_bench(self, words):
-        rooms = [amount_of(word) for word in words]
-        if not 1 <= len(rooms) <= MOST_ROOMS or None in rooms or NOUGHT in rooms:
+        bench = (tuple([amount_of(word) for word in words]), self.bench[1])
+        if not is_bench(bench):
             raise NoRow("a bench has one to sixteen rooms above nought")
-        self.lay_bench(tuple(rooms), self.bench[1])
+        self.lay_bench(bench)
         return "ok"
 
     def say_at_bench(self, word, phial):
@@ -83,8 +82,7 @@ class Desk:
         if word == "order":
             return shown_list(looked(self.book))
         name = things[0]
-        is_recipe = name in [recipe for recipe, rows in self.book[2]]
-        if not is_recipe and (word == "make" or name not in self.book[0]):
+        if name not in recipe_names(self.book) and (word == "make" or name not in self.book[0]):
             raise NoRow("the book has no such thing")
         if word == "mean":
             return shown_mixture(made(self.book, name, things[1]))
@@ -119,9 +117,9 @@ def say_strength(words):
 
 
 def are_measures(numbers):
-    if None in numbers or len(numbers) > MOST_MEASURES or numbers[0] < 1 or numbers[-1] > GREATEST_MEASURE:
+    if None in numbers or len(numbers) > MOST_MEASURES or not is_rising(numbers):
         return False
-    return all([numbers[place] < numbers[place + 1] for place in range(len(numbers) - 1)])
+    return numbers[0] >= 1 and numbers[-1] <= GREATEST_MEASURE
 
 
 def say_of_lots(books, word, things):

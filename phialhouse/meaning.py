@@ -15,8 +15,6 @@ def bowl(book, recipe):
 
 
 def made(book, thing, asked):
-    if asked == NOUGHT:
-        return ()
     needs = needs_of(book, thing, asked)
     return mixture([(name, needs[name]) for name in needs if name in book[0]])
 
@@ -33,6 +31,7 @@ def needs_of(book, thing, asked):
     needs = {thing: asked}
     for name in reversed(order_of(book)):
         if name in needs:
-            for place, part, many in puts(book, name, needs[name]):
+            own_puts = puts(book, name, needs[name])
+            for place, part, many in own_puts:
                 needs[part] = plus(needs.get(part, NOUGHT), many)
     return needs

@@ -11,12 +11,13 @@ def spread(first, steps, sought, deepest=60, most=2000):
     place = 0
     # Rows lie by their depth, so behind the first one that is too deep all are.
     while place < len(rows) and rows[place][1] < deepest:
-        for deed, node in steps(rows[place][0]):
+        here = rows[place]
+        for deed, node in steps(here[0]):
             if node not in laid:
                 if len(rows) >= most:
                     raise TooMany(most)
                 laid[node] = True
-                rows.append((node, rows[place][1] + 1, place, deed))
+                rows.append((node, here[1] + 1, place, deed))
                 if sought(node):
                     return (rows, len(rows) - 1)
         place += 1

@@ -6,16 +6,13 @@ from fractions import Fraction
 
 from phialhouse.amounts import amount, less, minus, over, plus, read_amount, shown_amount, times
 from phialhouse.errors import NoAmount, NoText
+from samples import as_amount
 
 NO_WHOLE_NUMBERS = [True, False, None, "", "1", "a", [], [1], (), (1,), (1, 1), {}, {1: 1}, 1.0, 0.5, 2j, b"1",
                     Fraction(1, 2), int, object()]
 # Two primes, of 39 and of 157 figures, so that their lowest terms are known.
 LARGE = 2 ** 127 - 1
 LARGER = 2 ** 521 - 1
-
-
-def as_amount(one):
-    return (one.numerator, one.denominator)
 
 
 def some_amounts():

@@ -114,6 +114,10 @@ class TestBook(DeskTest):
         self.assertEqual(desk.bench, (((3, 1),), (("a", "b"), ("a", "c"))))
         self.says(desk, "book ware a", "ok")
         self.assertEqual(desk.bench, (((3, 1),), ()))
+        pairs = [("h", "a"), ("b", "g"), ("f", "c"), ("a", "g"), ("e", "d"), ("c", "b"), ("g", "b"), ("d", "a"), ("h", "b")]
+        lines = [f"ware {name}" for name in "abcdefgh"] + [f"apart {one} {other}" for one, other in pairs]
+        self.says(desk, "book " + " | ".join(lines), "ok")
+        self.assertEqual(desk.bench[1], (("a", "d"), ("a", "g"), ("a", "h"), ("b", "c"), ("b", "g"), ("b", "h"), ("c", "f"), ("d", "e")))
 
     def test_the_books_of_lots_stay(self):
         desk = desk_of("take la salt 3 9", BOOK_ROW, "bench 1")

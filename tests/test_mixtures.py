@@ -6,21 +6,10 @@ from fractions import Fraction
 
 from phialhouse.errors import Nothing, Short
 from phialhouse.mixtures import alike, brought, is_ware, mixture, of_ware, taken, together, whole
+from samples import as_amount, as_fraction, as_mixture
 
 LARGE = 10 ** 60 + 7
 BRINE = (("salt", (1, 2)), ("water", (3, 2)))
-
-
-def as_amount(one):
-    return (one.numerator, one.denominator)
-
-
-def as_fraction(one):
-    return Fraction(one[0], one[1])
-
-
-def as_mixture(parts):
-    return tuple([(ware, as_amount(parts[ware])) for ware in sorted(parts) if parts[ware] > 0])
 
 
 def some_parts(source):

@@ -148,6 +148,10 @@ class TestWayTo(unittest.TestCase):
         place = [row[0] for row in rows].index(8)
         self.assertEqual(way_to(rows, place), ["one", "double", "double"])
 
+    def test_deeds_that_are_none(self):
+        rows = spread(0, lambda node: [(None, node + 1)], never, 3)[0]
+        self.assertEqual(way_to(rows, 3), [None, None, None])
+
     def test_a_deep_one(self):
         rows = spread(0, lambda node: [(node, node + 1)], never)[0]
         self.assertEqual(way_to(rows, 60), list(range(60)))

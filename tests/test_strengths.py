@@ -140,6 +140,14 @@ class TestAskedFor(unittest.TestCase):
             self.assertEqual(self.looked_at([1], 2, (1, bottom)), told[0])
             self.assertEqual(told[0], word)
         self.assertEqual(asked_for([1], 2, (1, 16), 1, 8)[0], "made")
+        # A ninth in a room of three is made by seven deeds, an eighth by six.
+        self.assertEqual(len(asked_for([1], 3, (1, 8))[1]), 6)
+        self.assertEqual(asked_for([1], 3, (1, 9))[0], "none")
+        self.assertEqual(len(asked_for([1], 3, (1, 9), 1, 7)[1]), 7)
+
+    def test_least_left_out_is_1(self):
+        self.assertEqual(asked_for([1], 1, (1, 1)), ("made", [("strong", 1)]))
+        self.assertEqual(asked_for([1], 9, (0, 1)), ("made", [("thin", 1)]))
 
     def test_rising_by_their_worth(self):
         word, told = asked_for([1, 2], 7, (1, 1009), 1, 6, 5000)
